@@ -1,0 +1,70 @@
+"""Promise [2]: the errors, and the names of the interface in their files."""
+
+import importlib
+import inspect
+import unittest
+
+from weightwebs import errors
+from weightwebs.errors import NotCrystal, NotFlat, NotMatrix, NotName, TooMany, WebError
+
+KINDS = (NotMatrix, NotName, TooMany, NotCrystal, NotFlat)
+
+INTERFACE = {
+    "matrices": {
+        "matrix_breach": ["value"], "check_matrix": ["value"], "listed": ["matrix", "listing"],
+        "pieces": ["matrix"],
+    },
+    "names": {"matrix_of": ["name"], "name_of": ["matrix"], "listing_of": ["matrix"], "names": ["rank"]},
+    "roots": {
+        "as_weight": ["matrix", "c"], "positive_roots": ["matrix"], "lengths": ["matrix"],
+        "against": ["matrix", "v", "c"], "short_roots": ["matrix"], "tops": ["matrix"],
+        "height_row": ["matrix"], "exponents": ["matrix"],
+    },
+    "reflections": {
+        "reflected": ["matrix", "v", "i"], "moved": ["matrix", "v", "word"],
+        "are_alike": ["matrix", "word", "other"], "length": ["matrix", "word"],
+        "is_least": ["matrix", "word"], "first_word": ["matrix", "word"],
+    },
+    "groups": {
+        "orbit": ["matrix", "v"], "topmost": ["matrix", "v"], "group_size": ["matrix"],
+        "longest_word": ["matrix"], "length_row": ["matrix"],
+    },
+    "belows": {
+        "is_below": ["matrix", "word", "other"], "below": ["matrix", "word"], "turned": ["matrix", "word"],
+        "descents": ["matrix", "word"], "coset_words": ["matrix", "lot"],
+    },
+}
+
+
+class Errors(unittest.TestCase):
+    def test_each_is_a_direct_subclass_of_the_base(self):
+        for kind in KINDS:
+            self.assertEqual(kind.__bases__, (WebError,))
+
+    def test_the_base_is_a_value_error(self):
+        self.assertEqual(WebError.__bases__, (ValueError,))
+
+    def test_no_other_classes_stand_there(self):
+        classes = [value for value in vars(errors).values() if inspect.isclass(value)]
+        self.assertCountEqual(classes, KINDS + (WebError,))
+
+    def test_attributes_are_set_when_created(self):
+        self.assertEqual(TooMany(400).limit, 400)
+        for kind in (NotMatrix, NotCrystal):
+            error = kind("form", -1)
+            self.assertEqual((error.rule, error.place), ("form", -1))
+
+    def test_they_can_be_shown(self):
+        for error in (TooMany(400), NotMatrix("sign", 2), NotCrystal("back", 1)):
+            self.assertTrue(str(error))
+
+
+class Interface(unittest.TestCase):
+    def test_each_function_stands_in_its_file_with_its_arguments(self):
+        for file, functions in INTERFACE.items():
+            module = importlib.import_module("weightwebs." + file)
+            for name, arguments in functions.items():
+                with self.subTest(file=file, name=name):
+                    function = getattr(module, name)
+                    self.assertEqual(function.__module__, "weightwebs." + file)
+                    self.assertEqual(list(inspect.signature(function).parameters), arguments)

@@ -1,0 +1,1 @@
+"""Weightwebs: root systems of rank up to four, weights and crystals."""
