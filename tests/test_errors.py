@@ -33,6 +33,20 @@ INTERFACE = {
         "is_below": ["matrix", "word", "other"], "below": ["matrix", "word"], "turned": ["matrix", "word"],
         "descents": ["matrix", "word"], "coset_words": ["matrix", "lot"],
     },
+    "unders": {
+        "is_under": ["matrix", "a", "b"], "steps_between": ["matrix", "a", "b"], "under": ["matrix", "t"],
+    },
+    "numbers": {
+        "size": ["matrix", "t"], "numbers_by_strings": ["matrix", "t"], "partition_number": ["matrix", "c"],
+        "numbers_by_partitions": ["matrix", "t"], "numbers_by_signs": ["matrix", "t"],
+    },
+    "cuts": {
+        "cut_down": ["matrix", "sums", "i"], "cut_web": ["matrix", "t", "word"],
+        "numbers_by_cuts": ["matrix", "t"], "all_numbers": ["matrix", "t"], "depth_row": ["matrix", "t"],
+    },
+    "crystals": {
+        "falls": ["crystal", "p", "i"], "rises": ["crystal", "p", "i"], "before": ["crystal", "p", "i"],
+    },
 }
 
 

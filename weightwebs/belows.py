@@ -2,7 +2,8 @@
 
 from weightwebs.errors import TooMany
 from weightwebs.groups import group_size, orbit
-from weightwebs.reflections import first_word, moved, ones, reflected, way_up
+from weightwebs.reflections import first_word, moved, reflected, way_up
+from weightwebs.weights import ones
 
 GROUP_LIMIT = 400
 

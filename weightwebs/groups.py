@@ -18,6 +18,23 @@ def orbit(matrix, v):
     return tuple(sorted(reached))
 
 
+def signed_orbit(matrix, v):
+    """Return the weights to which words move v, each with 1 or -1 as the word's length is even or odd.
+
+    Only for v with all entries above 0: then words that are not alike lead to different weights.
+    """
+    signs = {v: 1}
+    ahead = [v]
+    while ahead:
+        w = ahead.pop()
+        for i in range(len(matrix)):
+            other = reflected(matrix, w, i)
+            if other not in signs:
+                signs[other] = -signs[w]
+                ahead.append(other)
+    return signs
+
+
 def topmost(matrix, v):
     """Return the topmost weight of the orbit of v, and the first least word that moves it to v."""
     return way_up(matrix, v)

@@ -76,19 +76,20 @@ def simple_name(matrix, piece):
     return None
 
 
-def is_whole(value):
-    """Tell whether a value is an integer in the sense of the document."""
+def is_row(value, many):
+    """Tell whether a value is a tuple of so many integers."""
+    return isinstance(value, tuple) and len(value) == many and all([_is_whole(entry) for entry in value])
+
+
+def _is_whole(value):
+    # True and False are no integers in the document.
     return isinstance(value, int) and not isinstance(value, bool)
 
 
 def _has_form(value):
     if not isinstance(value, tuple) or not 1 <= len(value) <= GREATEST_RANK:
         return False
-    return all([_is_row(row, len(value)) for row in value])
-
-
-def _is_row(value, many):
-    return isinstance(value, tuple) and len(value) == many and all([is_whole(entry) for entry in value])
+    return all([is_row(row, len(value)) for row in value])
 
 
 def _has_right_signs(matrix, i):

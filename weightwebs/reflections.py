@@ -1,9 +1,11 @@
 """Reflections of weights, and words of reflections."""
 
+from weightwebs.weights import ones, stepped
+
 
 def reflected(matrix, v, i):
     """Return v less v[i] times the simple root i."""
-    return tuple([entry - v[i] * step for entry, step in zip(v, matrix[i])])
+    return stepped(v, -v[i], matrix[i])
 
 
 def moved(matrix, v, word):
@@ -31,11 +33,6 @@ def is_least(matrix, word):
 def first_word(matrix, word):
     """Return the first one, as a tuple, of the least words that are like a word."""
     return way_up(matrix, _trace(matrix, word))[1]
-
-
-def ones(matrix):
-    """Return the weight (1, .., 1)."""
-    return (1,) * len(matrix)
 
 
 def way_up(matrix, v):

@@ -40,14 +40,14 @@ def lengths(matrix):
 def against(matrix, v, c):
     """Return 2 (v, c) / (c, c) for a weight v and a root c."""
     d = lengths(matrix)
-    return 2 * _paired(d, v, c) // _paired(d, as_weight(matrix, c), c)
+    return 2 * paired(d, v, c) // paired(d, as_weight(matrix, c), c)
 
 
 def short_roots(matrix):
     """Return the positive roots whose square is the least within their piece."""
     d = lengths(matrix)
     # The least length of each piece is 1, and the square of its simple root is 2.
-    return tuple([c for c in positive_roots(matrix) if _paired(d, as_weight(matrix, c), c) == 2])
+    return tuple([c for c in positive_roots(matrix) if paired(d, as_weight(matrix, c), c) == 2])
 
 
 def tops(matrix):
@@ -94,5 +94,6 @@ def _piece_lengths(matrix, piece):
     return found
 
 
-def _paired(d, v, c):
+def paired(d, v, c):
+    """Return (v, c) for a weight v and a root c, by the lengths d."""
     return sum([c[i] * d[i] * v[i] for i in range(len(c))])
