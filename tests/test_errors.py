@@ -47,6 +47,17 @@ INTERFACE = {
     "crystals": {
         "falls": ["crystal", "p", "i"], "rises": ["crystal", "p", "i"], "before": ["crystal", "p", "i"],
     },
+    "judges": {"crystal_breach": ["matrix", "value"], "check_crystal": ["matrix", "value"]},
+    "paths": {
+        "straight": ["t"], "lowered": ["matrix", "path", "i"], "raised": ["matrix", "path", "i"],
+    },
+    "webs": {
+        "crystal": ["matrix", "t"], "crystal_of_path": ["matrix", "path"], "path_of": ["matrix", "t", "p"],
+    },
+    "turns": {
+        "string_turned": ["crystal", "p", "i"], "point_moved": ["crystal", "p", "word"],
+        "corner_points": ["matrix", "crystal"], "opposite": ["matrix"], "turned_over": ["matrix", "crystal"],
+    },
 }
 
 
