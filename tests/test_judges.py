@@ -5,7 +5,7 @@ from functools import lru_cache
 from itertools import combinations
 
 from tests.plain_paths import plain_crystal, plain_numbered
-from tests.plain_webs import WEBS, listed_anew, listed_webs, plain_size, plain_sum, tops_up_to
+from tests.plain_webs import WEBS, listed_anew, listed_webs, plain_size, plain_sum, plain_web, tops_up_to
 from tests.samples import ALL_NAMES, all_listed, plain_listed, plain_matrix
 from tests.test_crystals import EIGHT, FIVE, LINE, ONE, SIX, THREE, ZERO
 from weightwebs.errors import NotCrystal
@@ -221,6 +221,8 @@ class Rules(unittest.TestCase):
         self.check("A1", with_arrow(LINE, 3, 0, 2), ("back", 2))
         self.check("A2", with_arrow(EIGHT, 0, 1, 3), ("back", 3))
         self.check("A2", with_arrow(EIGHT, 7, 0, 1), ("back", 1))
+        self.check("A1", (((1,), (-1,)), ((0,), (0,))), ("back", 0))
+        self.check("A2", with_arrow(with_arrow(THREE, 1, 0, 0), 2, 0, 0), ("back", 0))
         # The least of several points, though it is met behind the other one and in a greater row.
         self.check("A2", with_arrow(with_arrow(EIGHT, 0, 0, 7), 7, 1, 2), ("back", 2))
         self.check("A2", with_arrow(with_arrow(EIGHT, 1, 1, 2), 2, 0, 1), ("back", 1))
@@ -330,6 +332,39 @@ class Rules(unittest.TestCase):
             ((1, 2), (3, 4), (5, 6), (-1, 7), (-1, 8), (7, -1), (8, -1), (-1, 9), (9, -1), (-1, -1)),
         )
         self.check("A1+A1", twice, ("pair", 0))
+
+    def test_each_weight_once(self):
+        # All strings are right as well if each weight has one point only.
+        for name, t, breach in (
+            ("A2", (1, 1), ("pair", 0)),
+            ("A2", (3, 0), None),
+            ("G2", (0, 1), ("pair", 0)),
+            ("A3", (1, 0, 1), ("pair", 1)),
+            ("A4", (1, 0, 0, 1), ("pair", 3)),
+            ("D4", (1, 0, 0, 0), None),
+            ("A1+A2", (1, 1, 1), ("pair", 0)),
+        ):
+            matrix = plain_matrix(name)
+            value = self.weights_alone(matrix, t)
+            self.assertEqual(crystal_breach(matrix, value), plain_breach(matrix, value))
+            self.assertEqual(crystal_breach(matrix, value), breach)
+
+    def test_no_error_for_a_part_with_a_great_web(self):
+        for name, t in (("A2", (8, 8)), ("B2", (5, 5)), ("G2", (3, 2)), ("A1+A2", (0, 7, 9))):
+            matrix = plain_matrix(name)
+            value = self.weights_alone(matrix, t)
+            self.assertLessEqual(len(value[0]), 400)
+            self.assertGreater(plain_size(matrix, t), 400)
+            self.check(name, value, ("pair", 0))
+
+    def weights_alone(self, matrix, t):
+        """The weights of a web, each at one point, with all arrows between them."""
+        weights = [t] + sorted(v for v in plain_web(matrix, t) if v != t)
+        arrows = []
+        for v in weights:
+            lower = [plain_sum(v, root, -1) for root in matrix]
+            arrows.append(tuple(weights.index(w) if w in weights else -1 for w in lower))
+        return plain_numbered(weights, arrows)
 
     def test_every_small_change(self):
         """One entry of a crystal changed, each in turn, and judged by the words of the document."""

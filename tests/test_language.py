@@ -53,6 +53,40 @@ def bound_names(tree):
     return found
 
 
+COMPREHENSIONS = (ast.ListComp, ast.DictComp, ast.SetComp, ast.GeneratorExp)
+
+CHANGES = ("append", "extend", "insert", "pop", "remove", "clear", "update", "setdefault", "sort", "reverse",
+           "add", "discard")
+
+
+def names_in(node):
+    return {part.id for part in ast.walk(node) if isinstance(part, ast.Name)}
+
+
+def own_targets(comprehension):
+    return {name for generator in comprehension.generators for name in names_in(generator.target)}
+
+
+def stored_names(node):
+    """The names that a function assigns itself, those of its comprehensions left out."""
+    if isinstance(node, COMPREHENSIONS):
+        return set()
+    found = {node.id} if isinstance(node, ast.Name) and isinstance(node.ctx, ast.Store) else set()
+    found |= {node.arg} if isinstance(node, ast.arg) else set()
+    return found.union(*[stored_names(part) for part in ast.iter_child_nodes(node)])
+
+
+def changed_names(nodes):
+    """The names of the lists and dicts that some statements change."""
+    found = set()
+    for node in [part for node in nodes for part in ast.walk(node)]:
+        if isinstance(node, ast.Call) and isinstance(node.func, ast.Attribute) and node.func.attr in CHANGES:
+            found |= names_in(node.func.value)
+        if isinstance(node, ast.Subscript) and not isinstance(node.ctx, ast.Load):
+            found |= names_in(node.value)
+    return found
+
+
 class Language(unittest.TestCase):
     def test_files(self):
         self.assertIn("__init__.py", sources())
@@ -136,6 +170,39 @@ class Language(unittest.TestCase):
                       if isinstance(node, ast.Name) and isinstance(node.ctx, ast.Store)]
             stored += [node.arg for node in ast.walk(tree) if isinstance(node, ast.arg)]
             self.assertFalse(classes_and_imports & set(stored), name)
+
+    def test_a_loop_does_not_change_what_its_head_names(self):
+        for name, text in sources().items():
+            for node in ast.walk(ast.parse(text)):
+                if isinstance(node, ast.For):
+                    copied = isinstance(node.iter, ast.Call) and names_in(node.iter.func) & {"list", "sorted"}
+                    if not copied:
+                        self.assertFalse(names_in(node.iter) & changed_names(node.body), (name, node.lineno))
+
+    def test_names_of_inner_comprehensions(self):
+        for name, text in sources().items():
+            for function in ast.walk(ast.parse(text)):
+                if isinstance(function, ast.FunctionDef):
+                    outside = stored_names(function)
+                    for outer in ast.walk(function):
+                        if isinstance(outer, COMPREHENSIONS):
+                            self.check_inner(outer, outside | own_targets(outer), name)
+
+    def check_inner(self, outer, outside, name):
+        for inner in ast.walk(outer):
+            if isinstance(inner, COMPREHENSIONS) and inner is not outer:
+                self.assertFalse((own_targets(inner) - {"_"}) & outside, (name, inner.lineno))
+
+    def test_words_that_are_not_used(self):
+        barred = set(
+            "register mro elements open input law version_info with_traceback add_note attrgetter breakpoint "
+            "builtins compile copyright credits delattr dir eval exec exit gc globals help id importlib license "
+            "locals methodcaller os quit super sys vars typing enum Enum Generic Protocol ABC namedtuple".split()
+        )
+        for name, text in sources().items():
+            for node in ast.walk(ast.parse(text)):
+                word = getattr(node, "id", getattr(node, "arg", getattr(node, "attr", getattr(node, "name", None))))
+                self.assertNotIn(word, barred, (name, node))
 
     def test_no_barred_signs(self):
         for name, text in sources().items():

@@ -51,7 +51,8 @@ def coset_words(matrix, lot):
 
 def _words_to(matrix, weights):
     words = [way_up(matrix, v)[1] for v in weights]
-    return tuple([word for _, word in sorted([(len(word), word) for word in words])])
+    told = sorted([(len(word), word) for word in words])
+    return tuple([word for _, word in told])
 
 
 def _check_group(matrix):

@@ -125,7 +125,7 @@ def _place_in_parts(matrix, value):
 
 
 def _parts(arrows, backs):
-    """Return the lists of the points that hang together, each ascending, by their least points."""
+    """Return the lists of the points that hang together, each with its least point first, by these."""
     found = []
     seen = set()
     for first in range(len(arrows)):
@@ -135,12 +135,13 @@ def _parts(arrows, backs):
         seen.add(first)
         k = 0
         while k < len(part):
-            for q in arrows[part[k]] + backs[part[k]]:
+            near = arrows[part[k]] + backs[part[k]]
+            for q in near:
                 if q >= 0 and q not in seen:
                     seen.add(q)
                     part.append(q)
             k += 1
-        found.append(sorted(part))
+        found.append(part)
     return found
 
 
@@ -151,10 +152,11 @@ def _numbered(value, first):
     numbers = {first: 0, -1: -1}
     k = 0
     while k < len(points):
-        for q in arrows[points[k]]:
+        row = arrows[points[k]]
+        for q in row:
             if q not in numbers:
                 numbers[q] = len(points)
                 points.append(q)
         k += 1
-    rows = [tuple([numbers[q] for q in arrows[p]]) for p in points]
+    rows = [tuple([numbers[other] for other in arrows[p]]) for p in points]
     return (tuple([weights[p] for p in points]), tuple(rows))

@@ -60,7 +60,7 @@ def numbers_by_partitions(matrix, t):
     # The steps up to the moved t + u are those up to t less those from there on up to t + u.
     less = [(sign, steps_by(undo, minus(top, w))) for w, sign in signed_orbit(matrix, top).items()]
     steps = [(v, steps_by(undo, minus(t, v))) for v in under(matrix, t)]
-    most = tuple([max([c[i] for _, c in steps]) for i in range(len(matrix))])
+    most = tuple([max([row[i] for _, row in steps]) for i in range(len(matrix))])
     table = _partition_table(matrix, most)
     told = []
     for v, c in steps:

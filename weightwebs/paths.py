@@ -31,7 +31,7 @@ def scaled(path):
     for point in path:
         for _, below in point:
             scale = lcm(scale, below)
-    return scaled_least(scale, [tuple([above * (scale // below) for above, below in point]) for point in path])
+    return scaled_least(scale, [_times(scale, point) for point in path])
 
 
 def as_path(told):
@@ -118,6 +118,10 @@ def _divisor(entries):
     for entry in entries:
         common = gcd(common, entry)
     return common
+
+
+def _times(scale, point):
+    return tuple([above * (scale // below) for above, below in point])
 
 
 def _ratio(entry, scale):

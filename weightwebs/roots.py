@@ -23,7 +23,8 @@ def positive_roots(matrix):
             if other not in found:
                 found.append(other)
         k += 1
-    return tuple([c for _, c in sorted([(sum(c), c) for c in found])])
+    told = sorted([(sum(c), c) for c in found])
+    return tuple([c for _, c in told])
 
 
 def lengths(matrix):

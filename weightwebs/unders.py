@@ -34,7 +34,8 @@ def under(matrix, t):
                 ahead.append(w)
         if len(depths) > UNDER_LIMIT:
             raise TooMany(UNDER_LIMIT)
-    return tuple([w for _, w in sorted([(depth, w) for w, depth in depths.items()])])
+    told = sorted([(depth, w) for w, depth in depths.items()])
+    return tuple([w for _, w in told])
 
 
 def inverse(matrix):
