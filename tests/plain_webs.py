@@ -58,6 +58,7 @@ def plain_against(matrix, v, c):
     return 2 * sum(c[i] * d[i] * v[i] for i in range(len(c))) / sum(c[i] * d[i] * w[i] for i in range(len(c)))
 
 
+@lru_cache(maxsize=None)
 def plain_size(matrix, t):
     u = (1,) * len(matrix)
     size = Fraction(1)
@@ -206,3 +207,8 @@ def listed_webs(most):
                 if turned != matrix or t[::-1] != t:
                     found.append((turned, t[::-1]))
     return found
+
+
+def spread(rows, many):
+    """About so many of the rows, from the first to near the last."""
+    return rows[::max(1, len(rows) // many)]

@@ -2,6 +2,7 @@
 
 import importlib
 import inspect
+import os
 import unittest
 
 from weightwebs import errors
@@ -58,6 +59,38 @@ INTERFACE = {
         "string_turned": ["crystal", "p", "i"], "point_moved": ["crystal", "p", "word"],
         "corner_points": ["matrix", "crystal"], "opposite": ["matrix"], "turned_over": ["matrix", "crystal"],
     },
+    "wordwebs": {
+        "word_lowered": ["crystals", "word", "i"], "word_raised": ["crystals", "word", "i"],
+        "word_weight": ["crystals", "word"], "top_words": ["crystals"],
+        "web_of_word": ["matrix", "crystals", "word"],
+    },
+    "products": {
+        "product_by_reflections": ["matrix", "a", "b"], "product_by_points": ["matrix", "a", "b"],
+        "product_by_walks": ["matrix", "a", "b"], "product_by_peeling": ["matrix", "a", "b"],
+        "power_parts": ["matrix", "t", "k"], "opposite_weight": ["matrix", "t"],
+    },
+    "parts": {
+        "part_matrix": ["matrix", "lot"], "seen": ["v", "lot"], "parts_by_points": ["matrix", "t", "lot"],
+        "parts_by_peeling": ["matrix", "t", "lot"], "cut_points": ["crystal", "word"],
+    },
+    "strings": {
+        "string_of": ["crystal", "p", "word"], "point_of_string": ["crystal", "string", "word"],
+        "word_moves": ["matrix", "word"], "word_after": ["word", "move"], "string_after": ["string", "move"],
+    },
+    "graded": {"graded_partition": ["matrix", "c"], "graded_number": ["matrix", "t", "v"]},
+    "levels": {
+        "level_of": ["matrix", "t"], "within_level": ["matrix", "k"], "level_product": ["matrix", "a", "b", "k"],
+        "level_table": ["matrix", "a", "k"], "level_turns": ["matrix", "k"],
+    },
+    "folds": {
+        "turnings": ["matrix"], "points_turned": ["crystal", "listing"], "even_points": ["crystal", "listing"],
+        "rounds": ["listing"], "is_loose": ["matrix", "listing"], "folded_matrix": ["matrix", "listing"],
+        "folded_web": ["matrix", "t", "listing"],
+    },
+    "flats": {
+        "is_flat": ["matrix", "t"], "flat_weights": ["matrix"], "flat_of": ["matrix", "v"],
+        "heap_of": ["matrix", "t"], "heap_lots": ["matrix", "t"],
+    },
 }
 
 
@@ -82,6 +115,15 @@ class Errors(unittest.TestCase):
     def test_they_can_be_shown(self):
         for error in (TooMany(400), NotMatrix("sign", 2), NotCrystal("back", 1)):
             self.assertTrue(str(error))
+
+    def test_the_package_has_no_other_classes(self):
+        folder = os.path.dirname(errors.__file__)
+        for file in sorted(os.listdir(folder)):
+            if file.endswith(".py") and file != "__init__.py":
+                module = importlib.import_module("weightwebs." + file[:-3])
+                classes = [value for value in vars(module).values() if inspect.isclass(value)]
+                own = {value for value in classes if value.__module__.startswith("weightwebs")}
+                self.assertLessEqual(own, set(KINDS) | {WebError}, file)
 
 
 class Interface(unittest.TestCase):

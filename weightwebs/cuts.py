@@ -18,10 +18,7 @@ def cut_down(matrix, sums, i):
 def cut_web(matrix, t, word):
     """Return the pairs (weight, number) of the part of the web of t that belongs to a word."""
     check_size(matrix, t, WEB_LIMIT)
-    sums = ((t, 1),)
-    for i in reversed(word):
-        sums = cut_down(matrix, sums, i)
-    return sums
+    return _cut_along(matrix, t, word)
 
 
 def numbers_by_cuts(matrix, t):
@@ -31,7 +28,13 @@ def numbers_by_cuts(matrix, t):
 
 def all_numbers(matrix, t):
     """Return the pairs (weight, number) for all weights of the web of t."""
-    return cut_web(matrix, t, longest_word(matrix))
+    check_size(matrix, t, WEB_LIMIT)
+    return web_numbers(matrix, t)
+
+
+def web_numbers(matrix, t):
+    """Return what `all_numbers` does, for webs of any size."""
+    return _cut_along(matrix, t, longest_word(matrix))
 
 
 def depth_row(matrix, t):
@@ -42,6 +45,13 @@ def depth_row(matrix, t):
     for depth, n in depths:
         row[depth] += n
     return tuple(row)
+
+
+def _cut_along(matrix, t, word):
+    sums = ((t, 1),)
+    for i in reversed(word):
+        sums = cut_down(matrix, sums, i)
+    return sums
 
 
 def _cut_pairs(v, n, root, i):

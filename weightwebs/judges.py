@@ -2,7 +2,7 @@
 
 from itertools import combinations
 
-from weightwebs.crystals import back_row, falls, rises
+from weightwebs.crystals import back_row, falls, grown, rises
 from weightwebs.errors import NotCrystal
 from weightwebs.matrices import is_row, listed
 from weightwebs.numbers import size
@@ -148,15 +148,5 @@ def _parts(arrows, backs):
 def _numbered(value, first):
     """Return the crystal of the points that one comes to from the first one, numbered as one comes to them."""
     weights, arrows = value
-    points = [first]
-    numbers = {first: 0, -1: -1}
-    k = 0
-    while k < len(points):
-        row = arrows[points[k]]
-        for q in row:
-            if q not in numbers:
-                numbers[q] = len(points)
-                points.append(q)
-        k += 1
-    rows = [tuple([numbers[other] for other in arrows[p]]) for p in points]
-    return (tuple([weights[p] for p in points]), tuple(rows))
+    points, rows = grown(first, len(weights[first]), lambda p, i: arrows[p][i] if arrows[p][i] >= 0 else None)
+    return (tuple([weights[p] for p in points]), rows)

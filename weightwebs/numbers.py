@@ -2,6 +2,7 @@
 
 from weightwebs.errors import TooMany
 from weightwebs.groups import orbit, signed_orbit
+from weightwebs.partitions import partition_table, ways_in
 from weightwebs.roots import as_weight, lengths, paired, positive_roots
 from weightwebs.unders import inverse, steps_between, steps_by, under
 from weightwebs.weights import minus, ones, plus
@@ -49,7 +50,7 @@ def partition_number(matrix, c):
         raise TooMany(PARTITION_LIMIT)
     if min(c) < 0:
         return 0
-    return _partition_table(matrix, c)[-1]
+    return partition_table(matrix, c, 1)[-1]
 
 
 def numbers_by_partitions(matrix, t):
@@ -61,10 +62,10 @@ def numbers_by_partitions(matrix, t):
     less = [(sign, steps_by(undo, minus(top, w))) for w, sign in signed_orbit(matrix, top).items()]
     steps = [(v, steps_by(undo, minus(t, v))) for v in under(matrix, t)]
     most = tuple([max([row[i] for _, row in steps]) for i in range(len(matrix))])
-    table = _partition_table(matrix, most)
+    table = partition_table(matrix, most, 1)
     told = []
     for v, c in steps:
-        n = sum([sign * _ways(table, most, minus(c, lost)) for sign, lost in less])
+        n = sum([sign * ways_in(table, most, minus(c, lost)) for sign, lost in less])
         told.append((v, n))
     return tuple(sorted(told))
 
@@ -96,34 +97,3 @@ def _number_by_strings(matrix, t, v, known):
             w = plus(w, step)
     middle = plus(plus(t, v), (2,) * len(matrix))
     return 2 * total // paired(d, middle, steps_between(matrix, v, t))
-
-
-def _partition_table(matrix, most):
-    """Return the partition numbers of all tuples from zeros up to most, in ascending sequence."""
-    table = [0] * len(_places((0,) * len(most), most))
-    table[0] = 1
-    for c in positive_roots(matrix):
-        back = _place(c, most)
-        for k in _places(c, most):
-            table[k] += table[k - back]
-    return table
-
-
-def _ways(table, most, c):
-    return 0 if min(c) < 0 else table[_place(c, most)]
-
-
-def _place(c, most):
-    """Return the place of a tuple among all tuples from zeros up to most."""
-    k = 0
-    for entry, greatest in zip(c, most):
-        k = k * (greatest + 1) + entry
-    return k
-
-
-def _places(c, most):
-    """Return, ascending, the places of all tuples from c up to most."""
-    found = [0]
-    for entry, greatest in zip(c, most):
-        found = [k * (greatest + 1) + x for k in found for x in range(entry, greatest + 1)]
-    return found
