@@ -167,7 +167,8 @@ class TopWords(unittest.TestCase):
         return tuple(crystal(plain_matrix("A1"), (many - 1,)) for many in sizes)
 
     def test_just_4000_words(self):
-        for sizes in ((10, 400), (400, 10), (4, 10, 10, 10), (5, 5, 5, 4, 4, 2), (1, 1, 10, 400), (1, 1, 1, 1, 20, 200)):
+        for sizes in ((10, 400), (400, 10), (4, 10, 10, 10), (5, 5, 5, 4, 4, 2), (1, 1, 10, 400),
+                      (1, 1, 1, 1, 20, 200)):
             webs = self.line(*sizes)
             found = top_words(webs)
             self.assertEqual(sum(word_weight(webs, word)[0] + 1 for word in found), 4000)
